@@ -4,6 +4,7 @@ import (
 	"slices"
 
 	"scarfjoint/api"
+	"scarfjoint/index"
 )
 
 // The bounds of graphs.
@@ -19,7 +20,7 @@ func checkNode(g api.Graph, kind int) api.Errno {
 	switch {
 	case e != api.OK:
 		return e
-	case !isIndex(kind, numTypes):
+	case !index.In(kind, numTypes):
 		return api.ErrRange
 	case len(g.Nodes) == maxNodes:
 		return api.ErrTooLarge
@@ -46,29 +47,16 @@ func checkRemove(g api.Graph, nodes, edges []int) api.Errno {
 	if e := Valid(g); e != api.OK {
 		return e
 	}
-	if e := checkAscending(nodes, len(g.Nodes)); e != api.OK {
+	if e := index.CheckAscending(nodes, len(g.Nodes)); e != api.OK {
 		return e
 	}
-	if e := checkAscending(edges, len(g.Edges)); e != api.OK {
+	if e := index.CheckAscending(edges, len(g.Edges)); e != api.OK {
 		return e
 	}
 	for i, x := range g.Edges {
 		isEndRemoved := slices.Contains(nodes, x.From) || slices.Contains(nodes, x.To)
 		if isEndRemoved && !slices.Contains(edges, i) {
 			return api.ErrDangling
-		}
-	}
-	return api.OK
-}
-
-// checkAscending returns the error of a list that has to name some of n elements, ascending.
-func checkAscending(l []int, n int) api.Errno {
-	for i, x := range l {
-		switch {
-		case !isIndex(x, n):
-			return api.ErrRange
-		case i > 0 && x <= l[i-1]:
-			return api.ErrOrder
 		}
 	}
 	return api.OK
@@ -93,7 +81,7 @@ func checkIncident(g api.Graph, node int) api.Errno {
 	if e := Valid(g); e != api.OK {
 		return e
 	}
-	if !isIndex(node, len(g.Nodes)) {
+	if !index.In(node, len(g.Nodes)) {
 		return api.ErrRange
 	}
 	return api.OK
@@ -117,7 +105,7 @@ func checkReorder(g api.Graph, m api.Morphism) api.Errno {
 func checkPermutation(l []int) api.Errno {
 	// The chapter asks of the whole list whether a number is out of range, and only then whether one occurs twice.
 	for _, x := range l {
-		if !isIndex(x, len(l)) {
+		if !index.In(x, len(l)) {
 			return api.ErrRange
 		}
 	}
@@ -131,10 +119,5 @@ func checkPermutation(l []int) api.Errno {
 
 // isEdge reports whether a graph can have an edge, as far as its type and its ends are concerned.
 func isEdge(g api.Graph, x api.Edge) bool {
-	return isIndex(x.Type, numTypes) && isIndex(x.From, len(g.Nodes)) && isIndex(x.To, len(g.Nodes))
-}
-
-// isIndex reports whether a list of n elements has an element i.
-func isIndex(i, n int) bool {
-	return 0 <= i && i < n
+	return index.In(x.Type, numTypes) && index.In(x.From, len(g.Nodes)) && index.In(x.To, len(g.Nodes))
 }

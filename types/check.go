@@ -4,6 +4,7 @@ import (
 	"slices"
 
 	"scarfjoint/api"
+	"scarfjoint/index"
 	"scarfjoint/token"
 )
 
@@ -23,7 +24,7 @@ func check(t api.Types, nodes ...int) api.Errno {
 		return e
 	}
 	for _, a := range nodes {
-		if !isIndex(a, len(t.Nodes)) {
+		if !index.In(a, len(t.Nodes)) {
 			return api.ErrRange
 		}
 	}
@@ -35,7 +36,7 @@ func checkNode(before []api.NodeType, x api.NodeType) api.Errno {
 	if e := checkName(before, x, func(y api.NodeType) string { return y.Name }); e != api.OK {
 		return e
 	}
-	if x.Parent != -1 && !isIndex(x.Parent, len(before)) {
+	if x.Parent != -1 && !index.In(x.Parent, len(before)) {
 		return api.ErrRange
 	}
 	inherited := attributes(before, x.Parent)
@@ -92,7 +93,7 @@ func checkEdge(nodes int, before []api.EdgeType, x api.EdgeType) api.Errno {
 		return e
 	}
 	switch {
-	case !isIndex(x.From, nodes) || !isIndex(x.To, nodes):
+	case !index.In(x.From, nodes) || !index.In(x.To, nodes):
 		return api.ErrRange
 	case !areBounds(x.OutLow, x.OutHigh) || !areBounds(x.InLow, x.InHigh):
 		return api.ErrRange
@@ -116,9 +117,4 @@ func checkName[T any](before []T, x T, name func(T) string) api.Errno {
 func areBounds(low, high int) bool {
 	isHigh := high == -1 || low <= high && high <= maxMultiplicity
 	return 0 <= low && low <= maxMultiplicity && isHigh
-}
-
-// isIndex reports whether a list of n elements has an element i.
-func isIndex(i, n int) bool {
-	return 0 <= i && i < n
 }
