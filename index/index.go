@@ -38,3 +38,12 @@ func Numbers(first, n int) []int {
 func Distinct(l []int) []int {
 	return slices.Compact(slices.Sorted(slices.Values(l)))
 }
+
+// Follow returns the images of images.
+func Follow(images, next []int) []int {
+	l := make([]int, len(images))
+	for i, image := range images {
+		l[i] = next[image]
+	}
+	return l
+}

@@ -50,7 +50,7 @@ func TestCheckAscending(t *testing.T) {
 	}
 }
 
-// Numbers follow one another, and Distinct leaves each of them once, without a change of its argument.
+// Numbers follow one another, Distinct leaves each of them once, without a change of its argument, and Follow returns images of images.
 func TestLists(t *testing.T) {
 	if l := index.Numbers(0, 0); len(l) != 0 {
 		t.Errorf("Numbers(0, 0) = %v", l)
@@ -64,5 +64,11 @@ func TestLists(t *testing.T) {
 	l := []int{5, 0, 5, 2, 0}
 	if d := index.Distinct(l); !slices.Equal(d, []int{0, 2, 5}) || !slices.Equal(l, []int{5, 0, 5, 2, 0}) {
 		t.Errorf("Distinct = %v, and the list is %v", d, l)
+	}
+	if m := index.Follow([]int{2, 0, 2}, []int{7, 8, 9}); !slices.Equal(m, []int{9, 7, 9}) {
+		t.Errorf("Follow = %v", m)
+	}
+	if m := index.Follow(nil, []int{7}); len(m) != 0 {
+		t.Errorf("Follow of nothing = %v", m)
 	}
 }
